@@ -1,0 +1,1 @@
+"""Reasonkeep: facts kept with their reasons."""
