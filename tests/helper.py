@@ -1,4 +1,13 @@
-"""What several tests of the project need."""
+"""What several tests of the project need: literals, things that lie, books made by a told chance, and the document's
+words on bindings and meanings worked the slow and plain way, to hold the program against."""
+
+import itertools
+
+from reason.terms import constant_before, in_order
+
+WIDTHS = {"a": 1, "b": 2, "c": 2, "d": 1, "e": 0, "f": 3}
+CONSTANTS = (-1, 0, 2, "k", "m")
+VARIABLES = ("X", "Y", "Z")
 
 
 class Agrees:
@@ -26,3 +35,129 @@ def no(predicate, *terms):
 
 def numbered(*rules):
     return dict(enumerate(rules, 1))
+
+
+def some_facts(chance, most, predicates="abcdef"):
+    facts = {}
+    for turn in range(chance.randint(0, most)):
+        predicate = chance.choice(predicates)
+        facts[predicate, tuple(chance.choice(CONSTANTS) for place in range(WIDTHS[predicate]))] = True
+    return list(facts)
+
+
+def some_terms(chance, count, variables):
+    pool = list(variables) * 2 + [chance.choice(CONSTANTS)]
+    return tuple(chance.choice(pool) for place in range(count))
+
+
+def some_body(chance, predicates="abcdef"):
+    """A body of a safe rule."""
+    body, bound = [], []
+    for turn in range(chance.randint(1, 5)):
+        kind = chance.choice(("yes", "yes", "yes", "not", "under", "unlike"))
+        if kind == "yes" and sum(literal[0] == "yes" for literal in body) == 3:
+            continue
+        if kind in ("yes", "not"):
+            predicate = chance.choice(predicates)
+            pool = VARIABLES if kind == "yes" else bound
+            body.append((kind, predicate, some_terms(chance, WIDTHS[predicate], pool)))
+        else:
+            body.append((kind,) + some_terms(chance, 2, bound))
+        if kind == "yes":
+            bound += [term for term in body[-1][2] if term in VARIABLES and term not in bound]
+    return tuple(body) or (("unlike", 0, 2),)
+
+
+def bound_in(body):
+    return sorted({term for literal in body if literal[0] == "yes" for term in literal[2] if term in VARIABLES})
+
+
+def some_rule(chance):
+    """A safe rule, a group rule now and then."""
+    body = some_body(chance)
+    bound = bound_in(body)
+    predicate = chance.choice("abcdef")
+    terms = some_terms(chance, WIDTHS[predicate], bound)
+    if terms and chance.random() < 0.25:
+        kinds = [("count",)] + [(kind, variable) for kind in ("sum", "least") for variable in bound]
+        terms = terms[:-1] + (chance.choice(kinds),)
+    return (predicate, terms, body)
+
+
+def is_whole(thing):
+    return isinstance(thing, int) and not isinstance(thing, bool)
+
+
+def put(term, binding):
+    return binding[term] if isinstance(term, str) and term[0].isupper() else term
+
+
+def literal_stands(literal, binding, facts):
+    if literal[0] in ("yes", "not"):
+        fact = (literal[1], tuple(put(term, binding) for term in literal[2]))
+        return (fact in facts) if literal[0] == "yes" else (fact not in facts)
+    one, other = put(literal[1], binding), put(literal[2], binding)
+    if literal[0] == "unlike":
+        return one != other
+    return is_whole(one) and is_whole(other) and one < other
+
+
+def variables_of(body):
+    terms = [term for literal in body for term in (literal[2] if literal[0] in ("yes", "not") else literal[1:])]
+    return sorted({term for term in terms if isinstance(term, str) and term[0].isupper()})
+
+
+def constants_in_order(facts):
+    found = []
+    for constant in {place for fact in facts for place in fact[1]}:
+        spot = 0
+        while spot < len(found) and constant_before(found[spot], constant):
+            spot += 1
+        found.insert(spot, constant)
+    return found
+
+
+def plain_bindings(body, facts):
+    """Every binding of the body's variables is tried, in order; those by which it holds are told."""
+    facts = set(facts)
+    variables = variables_of(body)
+    rows = itertools.product(constants_in_order(facts), repeat=len(variables))
+    tried = [dict(zip(variables, row)) for row in rows]
+    return [binding for binding in tried if all(literal_stands(literal, binding, facts) for literal in body)]
+
+
+def plain_group_facts(rule, facts):
+    predicate, terms, body = rule
+    bindings = plain_bindings(body, facts)
+    given = []
+    for group in {tuple(put(term, binding) for term in terms[:-1]) for binding in bindings}:
+        members = [binding for binding in bindings if tuple(put(term, binding) for term in terms[:-1]) == group]
+        if terms[-1] == ("count",):
+            given.append((predicate, group + (len(members),)))
+            continue
+        numbers = [member[terms[-1][1]] for member in members if is_whole(member[terms[-1][1]])]
+        if numbers:
+            given.append((predicate, group + ((sum if terms[-1][0] == "sum" else min)(numbers),)))
+    return in_order(given)
+
+
+def is_grouped(rule):
+    return len(rule[1]) > 0 and isinstance(rule[1][-1], tuple)
+
+
+def plain_meaning(rules, told, layers):
+    facts = set()
+    for layer in range(max([0, *layers.values()]) + 1):
+        own = [rule for rule in rules.values() if layers[rule[0]] == layer]
+        beneath = set(facts)
+        facts |= {fact for fact in told if layers.get(fact[0], 0) == layer}
+        for rule in own:
+            if is_grouped(rule):
+                facts |= set(plain_group_facts(rule, beneath))
+        before = None
+        while before != facts:
+            before = set(facts)
+            for head, terms, body in [rule for rule in own if not is_grouped(rule)]:
+                for binding in plain_bindings(body, before):
+                    facts.add((head, tuple(put(term, binding) for term in terms)))
+    return in_order(list(facts))

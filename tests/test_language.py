@@ -104,7 +104,8 @@ class LanguageTest(unittest.TestCase):
 
     def test_functions_and_classes(self):
         for place, node in self.nodes(ast.FunctionDef, ast.Lambda):
-            self.assertFalse(node.args.vararg or node.args.kwarg or node.args.kwonlyargs or node.args.posonlyargs, place)
+            self.assertFalse(node.args.vararg or node.args.kwarg, place)
+            self.assertFalse(node.args.kwonlyargs or node.args.posonlyargs, place)
             self.assertFalse([arg for arg in node.args.args if arg.annotation], place)
             self.assertFalse(getattr(node, "decorator_list", []) or getattr(node, "returns", None), place)
         for place, node in self.nodes(ast.ClassDef):
@@ -165,6 +166,18 @@ class LanguageTest(unittest.TestCase):
                 self.assertIn(node.func.attr, METHODS | self.own_methods, place)
         given = {node.attr for place, node in self.nodes(ast.Attribute) if isinstance(node.ctx, ast.Store)}
         self.assertFalse(given & self.own_methods)
+
+    def test_what_is_walked_is_walked_at_once(self):
+        takers = ("list", "tuple", "dict", "sorted", "sum", "any", "all", "enumerate", "zip", "min", "max")
+        for path, tree in self.trees.items():
+            fine = [id(node.iter) for node in ast.walk(tree) if isinstance(node, (ast.For, ast.comprehension))]
+            for node in ast.walk(tree):
+                if isinstance(node, ast.Call) and isinstance(node.func, ast.Name) and node.func.id in takers:
+                    fine += [id(argument) for argument in node.args[:1]]
+            for node in ast.walk(tree):
+                name = getattr(node.func, "id", getattr(node.func, "attr", "")) if isinstance(node, ast.Call) else ""
+                if name in ("zip", "enumerate", "reversed", "range", "items", "keys", "values"):
+                    self.assertIn(id(node), fine, (path, node.lineno))
 
     def test_sets_stand_where_they_may(self):
         for path, tree in self.trees.items():

@@ -179,7 +179,8 @@ class SafeTest(unittest.TestCase):
         self.is_none(with_body(no("r", "X"), ("under", "X", 1), yes("q", "X")))
 
     def test_guards_of_constants_stand_anywhere(self):
-        self.is_one(with_body(no("r", "a", 1)), with_body(("under", 1, 2)), with_body(("unlike", "a", 1), yes("q", "X")))
+        self.is_one(with_body(no("r", "a", 1)), with_body(("under", 1, 2)),
+                    with_body(("unlike", "a", 1), yes("q", "X")))
 
     def test_whatever_the_numbers_of_places(self):
         self.is_one(("p", ("X",), (yes("p", "X"), yes("p", "X", "X"), no("p"))))
@@ -202,7 +203,8 @@ class WidthsTest(unittest.TestCase):
                      ("many", (("count",),), (yes("r"),)), ("q", ("X",), (yes("r", "X"), yes("r", "X", "X")))):
             with self.assertRaises(Unlike):
                 widths_of({**self.rules, 12: rule}, self.told)
-        for fact in (("path", ("a",)), ("edge", ("a", "b")), ("off", (1,)), ("many", (1,)), ("lone", (1,)), ("all", ())):
+        for fact in (("path", ("a",)), ("edge", ("a", "b")), ("off", (1,)), ("many", (1,)), ("lone", (1,)),
+                     ("all", ())):
             with self.assertRaises(Unlike):
                 widths_of(self.rules, self.told + [fact])
         with self.assertRaises(Unlike):

@@ -50,8 +50,9 @@ class VariableTest(unittest.TestCase):
             self.assertIs(is_variable(thing), True, thing)
 
     def test_others(self):
-        for thing in ODD_THINGS + WORDS + ("a", "aX", "1X", "_X", "X_", "X-1", "X ", " X", "Abcdefghi", "X\u0661", "X\u00e4",
-                                           "\u00c4", "\u0410", "X\n", 0, 1, "@", "[", "X@", "X[", "X`", "X{", "X/", "X:"):
+        for thing in ODD_THINGS + WORDS + ("a", "aX", "1X", "_X", "X_", "X-1", "X ", " X", "Abcdefghi", "X\u0661",
+                                           "X\u00e4", "\u00c4", "\u0410", "X\n", 0, 1, "@", "[", "X@", "X[", "X`",
+                                           "X{", "X/", "X:"):
             self.assertIs(is_variable(thing), False, repr(thing))
 
 
@@ -66,7 +67,8 @@ class FactTest(unittest.TestCase):
                                    ("p", None), ("p", {}), ("p", ("a", "a", "a", "a", "a")), ("p", ("X",)),
                                    ("P", ("a",)), (1, ("a",)), ("not", ("a",)), ("p", ("not",)), ("p", (True,)),
                                    ("p", (1, False)), ("p", (None,)), ("p", (1.0,)), ("p", (("a",),)), ("p", ("a", [])),
-                                   ("p", (Agrees(),)), (Agrees(), ()), ("p", Agrees()), ((), ()), ("", ()), ("p", ("",))):
+                                   ("p", (Agrees(),)), (Agrees(), ()), ("p", Agrees()), ((), ()), ("", ()),
+                                   ("p", ("",))):
             self.assertIs(is_fact(thing), False, repr(thing))
 
     def test_what_is_handed_in_stays(self):

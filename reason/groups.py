@@ -1,0 +1,30 @@
+"""What group rules give."""
+
+from reason.joins import found_bindings
+from reason.matching import replaced_by
+from reason.terms import in_order, is_whole
+
+
+def gathered(grouping, bindings):
+    """The last place that a group of bindings gives, or None where it gives no fact."""
+    if grouping[0] == "count":
+        return len(bindings)
+    constants = [binding[grouping[1]] for binding in bindings]
+    numbers = [constant for constant in constants if is_whole(constant)]
+    if numbers == []:
+        return None
+    return sum(numbers) if grouping[0] == "sum" else min(numbers)
+
+
+def group_facts(rule, facts):
+    """The facts that a group rule gives, a sorted list."""
+    terms = rule[1]
+    groups = {}
+    for binding in found_bindings(rule[2], facts):
+        groups.setdefault(replaced_by(terms[:-1], binding), []).append(binding)
+    given = []
+    for places in groups:
+        last = gathered(terms[-1], groups[places])
+        if last is not None:
+            given.append((rule[0], places + (last,)))
+    return in_order(given)
