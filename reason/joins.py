@@ -2,7 +2,7 @@
 
 from reason.errors import NoPlan
 from reason.matching import literal_holds, met_by, replaced_by
-from reason.rules import are_bound_ahead, body_variables
+from reason.rules import are_bound_ahead, body_variables, has_predicate
 from reason.terms import constant_key, is_whole
 
 
@@ -90,6 +90,19 @@ def found_bindings(body, facts):
     for fact in facts:
         known[fact] = True
     return Join(body).grow(list(known), known)
+
+
+def bound_literal(literal, binding):
+    """A literal with the variables that a binding has replaced."""
+    if has_predicate(literal):
+        return (literal[0], literal[1], replaced_by(literal[2], binding))
+    return (literal[0],) + replaced_by(literal[1:], binding)
+
+
+def bindings_from(start, body, facts):
+    """The bindings of a body that agree with a binding to start from, with all that this one has, in no told order."""
+    bound = [bound_literal(literal, start) for literal in body]
+    return [both_of(start, binding) for binding in found_bindings(bound, facts)]
 
 
 def bindings_of(body, facts):

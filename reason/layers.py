@@ -64,3 +64,22 @@ def layers_of(rules):
     for step in steps:
         layers[step[0]] = 0
     return lifted(layers, steps)
+
+
+def layer_of(layers, predicate):
+    """The layer of a predicate; one in no rule is in layer 0."""
+    return layers.get(predicate, 0)
+
+
+def top_layer(layers):
+    """The last layer that there is."""
+    return max([0] + list(layers.values()))
+
+
+def rules_in_layer(rules, layers, layer):
+    """The rules for predicates of a layer, a dict by numbers, in the order of these."""
+    own = {}
+    for number in sorted(rules):
+        if layers[rules[number][0]] == layer:
+            own[number] = rules[number]
+    return own

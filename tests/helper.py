@@ -1,9 +1,11 @@
 """What several tests of the project need: literals, things that lie, books made by a told chance, and the document's
-words on bindings and meanings worked the slow and plain way, to hold the program against."""
+words on bindings, meanings and papers worked the slow and plain way, to hold the program against."""
 
 import itertools
 
-from reason.terms import constant_before, in_order
+from reason.errors import Ring
+from reason.layers import layers_of
+from reason.terms import constant_before, fact_key, in_order
 
 WIDTHS = {"a": 1, "b": 2, "c": 2, "d": 1, "e": 0, "f": 3}
 CONSTANTS = (-1, 0, 2, "k", "m")
@@ -50,10 +52,10 @@ def some_terms(chance, count, variables):
     return tuple(chance.choice(pool) for place in range(count))
 
 
-def some_body(chance, predicates="abcdef"):
+def some_body(chance, predicates="abcdef", longest=5):
     """A body of a safe rule."""
     body, bound = [], []
-    for turn in range(chance.randint(1, 5)):
+    for turn in range(chance.randint(1, longest)):
         kind = chance.choice(("yes", "yes", "yes", "not", "under", "unlike"))
         if kind == "yes" and sum(literal[0] == "yes" for literal in body) == 3:
             continue
@@ -72,9 +74,9 @@ def bound_in(body):
     return sorted({term for literal in body if literal[0] == "yes" for term in literal[2] if term in VARIABLES})
 
 
-def some_rule(chance):
+def some_rule(chance, longest=5):
     """A safe rule, a group rule now and then."""
-    body = some_body(chance)
+    body = some_body(chance, longest=longest)
     bound = bound_in(body)
     predicate = chance.choice("abcdef")
     terms = some_terms(chance, WIDTHS[predicate], bound)
@@ -161,3 +163,60 @@ def plain_meaning(rules, told, layers):
                 for binding in plain_bindings(body, before):
                     facts.add((head, tuple(put(term, binding) for term in terms)))
     return in_order(list(facts))
+
+
+def some_book(chance, most):
+    """Rules that have layers, a dict by numbers; their bodies are short, so that they give something."""
+    rules = {}
+    for number in chance.sample(range(1, 30), chance.randint(1, most)):
+        rules[number] = some_rule(chance, chance.randint(1, 3))
+        try:
+            layers_of(rules)
+        except Ring:
+            del rules[number]
+    return rules
+
+
+def used_in(body, binding):
+    return tuple((literal[1], tuple(put(term, binding) for term in literal[2]))
+                 for literal in body if literal[0] == "yes")
+
+
+def plain_instances(rules, facts, fact):
+    found = set()
+    for number, (predicate, terms, body) in rules.items():
+        if is_grouped(rules[number]):
+            if fact in plain_group_facts(rules[number], facts):
+                found.add((number, ()))
+            continue
+        for binding in plain_bindings(body, facts):
+            if (predicate, tuple(put(term, binding) for term in terms)) == fact:
+                found.add((number, used_in(body, binding)))
+    return sorted(found, key=lambda instance: (instance[0], [fact_key(one) for one in instance[1]]))
+
+
+def plain_takes(rules, told, paper):
+    """Whether the checker must take a paper, by the document's words in their order."""
+    layers = layers_of(rules)
+    ranks = {fact: rank for fact, rank, reason in paper}
+    facts = list(ranks)
+
+    def is_right(fact, rank, reason):
+        if reason[0] == "told":
+            return fact in told
+        if reason[1] not in rules or is_grouped(rules[reason[1]]) != (reason[0] == "group"):
+            return False
+        used = () if reason[0] == "group" else reason[2]
+        own = [one for one in used if layers.get(one[0], 0) == layers.get(fact[0], 0)]
+        return ((reason[1], used) in plain_instances(rules, facts, fact)
+                and all(one in ranks and ranks[one] < rank for one in own))
+
+    made = [head for rule in rules.values() for head in plain_made(rule, facts)]
+    return (len(ranks) == len(paper) <= 400 and all(fact in ranks for fact in told)
+            and all(is_right(*entry) for entry in paper) and all(fact in ranks for fact in made))
+
+
+def plain_made(rule, facts):
+    if is_grouped(rule):
+        return plain_group_facts(rule, facts)
+    return [(rule[0], tuple(put(term, binding) for term in rule[1])) for binding in plain_bindings(rule[2], facts)]
