@@ -2,6 +2,7 @@
 
 from reason.joins import found_bindings
 from reason.matching import replaced_by
+from reason.rules import is_group
 from reason.terms import in_order, is_whole
 
 
@@ -28,3 +29,12 @@ def group_facts(rule, facts):
         if last is not None:
             given.append((rule[0], places + (last,)))
     return in_order(given)
+
+
+def given_by_groups(rules, facts):
+    """What each group rule among the rules gives, a dict of lists by numbers."""
+    given = {}
+    for number, rule in rules.items():
+        if is_group(rule):
+            given[number] = group_facts(rule, facts)
+    return given

@@ -1,6 +1,6 @@
 """Papers of reasons, and the checker that takes them."""
 
-from reason.groups import group_facts
+from reason.groups import given_by_groups
 from reason.instances import is_use, made_by
 from reason.layers import layer_of, layers_of, rules_in_layer, top_layer
 from reason.rules import is_group
@@ -68,11 +68,7 @@ class Checker:
 
     def takes_layer(self, layer, paper):
         own_rules = rules_in_layer(self.book, self.layers, layer)
-        facts = list(self.ranks)
-        grouped = {}
-        for number in own_rules:
-            if is_group(own_rules[number]):
-                grouped[number] = group_facts(own_rules[number], facts)
+        grouped = given_by_groups(own_rules, list(self.ranks))
         entries = [entry for entry in paper if layer_of(self.layers, entry[0][0]) == layer]
         return self.are_right(entries, grouped) and self.is_closed(own_rules)
 

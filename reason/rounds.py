@@ -1,7 +1,7 @@
 """Papers worked layer by layer, and in each layer round by round."""
 
 from reason.errors import TooMany
-from reason.groups import group_facts
+from reason.groups import given_by_groups
 from reason.instances import head_of, used_by
 from reason.joins import Join
 from reason.layers import layer_of, layers_of, rules_in_layer, top_layer
@@ -24,9 +24,9 @@ def enter_told(entries, told):
 
 def enter_groups(entries, rules, beneath):
     """Keeps what the group rules of a layer give by the layers beneath."""
-    for number, rule in rules.items():
-        given = group_facts(rule, beneath) if is_group(rule) else []
-        for fact in given:
+    given = given_by_groups(rules, beneath)
+    for number in given:
+        for fact in given[number]:
             if fact not in entries:
                 enter(entries, fact, 0, ("group", number))
 

@@ -2,6 +2,7 @@
 words on bindings, meanings and papers worked the slow and plain way, to hold the program against."""
 
 import itertools
+import random
 
 from reason.errors import Ring
 from reason.layers import layers_of
@@ -175,6 +176,47 @@ def some_book(chance, most):
         except Ring:
             del rules[number]
     return rules
+
+
+def lively_rule(chance):
+    """A safe rule that often gives something: nearly all terms are variables, and few literals are no yes."""
+    body = []
+    for turn in range(chance.choice((1, 1, 2, 2, 3))):
+        predicate = chance.choice("abcdef")
+        body.append(yes(predicate, *[chance.choice(VARIABLES * 3 + (0,)) for place in range(WIDTHS[predicate])]))
+    bound = bound_in(body) or [0]
+    predicate = chance.choice("abcdef")
+    if chance.random() < 0.3:
+        guard = no(predicate, *chance.choices(bound, k=WIDTHS[predicate]))
+        body.append(chance.choice((guard, ("unlike", chance.choice(bound), "k"), ("under", 0, chance.choice(bound)))))
+    predicate = chance.choice("abcdef")
+    terms = tuple(chance.choices(bound * 4 + ["k"], k=WIDTHS[predicate]))
+    if terms and chance.random() < 0.1:
+        terms = terms[:-1] + (("count",),)
+    return (predicate, terms, tuple(body))
+
+
+def lively_book(chance, most):
+    """At most so many rules, that have layers, a dict by numbers, and told facts from which much follows."""
+    rules = {}
+    for number in chance.sample(range(1, 30), most):
+        rules[number] = lively_rule(chance)
+        try:
+            layers_of(rules)
+        except Ring:
+            del rules[number]
+    told = {}
+    for turn in range(chance.randint(5, 25)):
+        predicate = chance.choice("abcdef")
+        told[predicate, tuple(chance.choices((0, 1, "k"), k=WIDTHS[predicate]))] = True
+    return rules, list(told)
+
+
+def books(seed, turns):
+    """Turn about, a book of any rules with told facts and a lively one, by a chance of their own."""
+    chance = random.Random(seed)
+    for turn in range(turns):
+        yield lively_book(chance, 8) if turn % 2 else (some_book(chance, 6), some_facts(chance, 25))
 
 
 def used_in(body, binding):

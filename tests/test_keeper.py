@@ -2,7 +2,7 @@ import itertools
 import random
 import unittest
 
-from helper import Agrees, no, plain_meaning, some_facts, some_rule, yes
+from helper import Agrees, lively_rule, no, plain_meaning, some_facts, some_rule, yes
 from reason.errors import Missing, NoFact, NoRule, ReasonError, Ring, TooMany, Twice, Unlike, Unsafe
 from reason.keeper import Keeper
 from reason.layers import layers_of
@@ -350,7 +350,7 @@ class RowsOfDeedsTest(unittest.TestCase):
     def some_deed(self, chance, model):
         kind = chance.choice(("rule_in", "rule_in", "rule_out", "put", "put", "put", "put", "take", "take"))
         if kind == "rule_in":
-            rule = some_rule(chance, chance.randint(1, 3))
+            rule = lively_rule(chance) if chance.random() < 0.5 else some_rule(chance, chance.randint(1, 3))
             known = list(model.book.values())
             return kind, chance.choice(known) if known and chance.random() < 0.1 else rule
         if kind == "rule_out":

@@ -1,7 +1,7 @@
 import random
 import unittest
 
-from helper import no, numbered, plain_takes, some_book, some_facts, yes
+from helper import books, no, numbered, plain_takes, some_facts, yes
 from reason.meaning import meaning_of
 from reason.papers import facts_of, takes
 from reason.rounds import worked_paper
@@ -273,8 +273,7 @@ class PlainlyTest(unittest.TestCase):
     def test_against_the_document_worked_plainly(self):
         chance = random.Random(16)
         answers = {True: 0, False: 0}
-        for turn in range(250):
-            rules, told = some_book(chance, 5), some_facts(chance, 30)
+        for rules, told in books(16, 200):
             meaning, paper = meaning_of(rules, told), worked_paper(rules, told)
             facts = meaning + some_facts(chance, 5) + [("a", ()), ("e", ())]
             for time in range(6):

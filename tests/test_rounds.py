@@ -2,7 +2,7 @@ import itertools
 import random
 import unittest
 
-from helper import no, numbered, plain_instances, plain_meaning, plain_takes, some_book, some_facts, yes
+from helper import books, no, numbered, plain_instances, plain_meaning, plain_takes, yes
 from reason.errors import Ring, TooMany
 from reason.layers import layers_of
 from reason.papers import facts_of, takes
@@ -127,10 +127,8 @@ class BoundsTest(unittest.TestCase):
 
 class PlainlyTest(unittest.TestCase):
     def test_the_checker_takes_what_is_worked(self):
-        chance = random.Random(17)
         made = 0
-        for turn in range(250):
-            rules, told = some_book(chance, 6), some_facts(chance, 25)
+        for rules, told in books(17, 120):
             layers = layers_of(rules)
             paper = worked_paper(rules, told)
             meaning = plain_meaning(rules, told, layers)
