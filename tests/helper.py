@@ -1,7 +1,9 @@
 """What several tests of the project need: literals, things that lie, books made by a told chance, and the document's
 words on bindings, meanings and papers worked the slow and plain way, to hold the program against."""
 
+import functools
 import itertools
+import math
 import random
 
 from reason.errors import Ring
@@ -38,6 +40,18 @@ def no(predicate, *terms):
 
 def numbered(*rules):
     return dict(enumerate(rules, 1))
+
+
+PATHS = (("path", ("X", "Y"), (yes("edge", "X", "Y"),)),
+         ("path", ("X", "Z"), (yes("edge", "X", "Y"), yes("path", "Y", "Z"))))
+
+
+def edge(one, other):
+    return ("edge", (one, other))
+
+
+def path(one, other):
+    return ("path", (one, other))
 
 
 def some_facts(chance, most, predicates="abcdef"):
@@ -262,3 +276,125 @@ def plain_made(rule, facts):
     if is_grouped(rule):
         return plain_group_facts(rule, facts)
     return [(rule[0], tuple(put(term, binding) for term in rule[1])) for binding in plain_bindings(rule[2], facts)]
+
+
+def plain_mixed(rules):
+    """The mixed predicates, each looked at by all that stands beneath it."""
+    mixed = []
+    for predicate in {rule[0] for rule in rules.values()}:
+        seen, waiting = set(), [predicate]
+        while waiting:
+            one = waiting.pop()
+            if one not in seen:
+                seen.add(one)
+                waiting += [literal[1] for rule in rules.values() if rule[0] == one
+                            for literal in rule[2] if literal[0] in ("yes", "not")]
+        own = [rule for rule in rules.values() if rule[0] in seen]
+        if any(is_grouped(rule) or any(literal[0] == "not" for literal in rule[2]) for rule in own):
+            mixed.append(predicate)
+    return sorted(mixed)
+
+
+def plain_web(rules, told):
+    """The plain facts of the meaning, and the instances of each."""
+    mixed = plain_mixed(rules)
+    facts = [fact for fact in plain_meaning(rules, told, layers_of(rules)) if fact[0] not in mixed]
+    web = {fact: [] for fact in facts}
+    for number, (predicate, terms, body) in rules.items():
+        if predicate not in mixed:
+            for binding in plain_bindings(body, facts):
+                head = (predicate, tuple(put(term, binding) for term in terms))
+                web[head].append((number, used_in(body, binding)))
+    return web
+
+
+def plain_costs(web, told_costs, prices):
+    """By rounds, until nothing becomes cheaper."""
+    costs = {fact: told_costs[fact] for fact in web if fact in told_costs}
+    before = None
+    while before != costs:
+        before = dict(costs)
+        for fact in web:
+            for number, used in web[fact]:
+                if all(one in costs for one in used):
+                    cost = prices[number] + sum(costs[one] for one in used)
+                    costs[fact] = min(cost, costs.get(fact, cost))
+    return costs
+
+
+def plain_many(web, told, bound):
+    """The trees of no more than so many steps, for more and more steps, until there are no more up to the bound."""
+    counts = dict.fromkeys(web, 0)
+    before = None
+    while before != counts:
+        before = counts
+        counts = {}
+        for fact, instances in web.items():
+            many = (fact in told) + sum(math.prod(before[one] for one in used) for number, used in instances)
+            counts[fact] = min(many, bound)
+    return counts
+
+
+JOINED = {"bits": lambda one, other: one | other, "chain": max, "shares": math.lcm}
+MET = {"bits": lambda one, other: one & other, "chain": min, "shares": math.gcd}
+
+
+def plain_values(web, told_values, measure):
+    """By rounds from nought on, as the document tells it."""
+    kind, top = measure
+    nought = 1 if kind == "shares" else 0
+    values = dict.fromkeys(web, nought)
+    before = None
+    while before != values:
+        before = values
+        values = {}
+        for fact, instances in web.items():
+            value = told_values.get(fact, nought)
+            for number, used in instances:
+                value = JOINED[kind](value, functools.reduce(MET[kind], [before[one] for one in used], top))
+            values[fact] = value
+    return values
+
+
+def some_values(chance, told, measure):
+    kind, top = measure
+    if kind == "shares":
+        values = [number for number in range(1, 2000) if top % number == 0] + [top]
+    else:
+        values = [chance.randrange(top + 1) & (top if kind == "bits" else -1) for turn in range(5)] + [0, top]
+    return {fact: chance.choice(values) for fact in told}
+
+
+def plain_beneath(web, told, fact):
+    """The told facts of the least list that has the fact and, with each, what its instances use."""
+    found = {fact}
+    before = None
+    while before != found:
+        before = set(found)
+        for one in before:
+            found |= {used for number, all_used in web[one] for used in all_used}
+    return in_order([one for one in found if one in told])
+
+
+def parts_in_order(facts):
+    """All parts of the facts, in the order that the document tells of sets."""
+    return [part for size in range(len(facts) + 1) for part in itertools.combinations(in_order(facts), size)]
+
+
+def follows(web, given, fact):
+    """Whether a fact follows from given facts by the instances of a web."""
+    held = set(given)
+    before = None
+    while before != held:
+        before = set(held)
+        held |= {head for head, instances in web.items() if any(before.issuperset(used) for number, used in instances)}
+    return fact in held
+
+
+def least_parts(parts):
+    """Those parts that have no other one of them within."""
+    return [part for part in parts if not any(set(other) < set(part) for other in parts)]
+
+
+def plain_sets(web, told, fact):
+    return least_parts([part for part in parts_in_order(plain_beneath(web, told, fact)) if follows(web, part, fact)])

@@ -2,37 +2,10 @@ import itertools
 import random
 import unittest
 
-from helper import books, no, numbered, plain_instances, yes
+from helper import books, edge, no, numbered, path, PATHS, plain_costs, plain_web, yes
 from reason.costs import costs_of
 from reason.errors import TooMany
 from reason.plain import plain_facts
-
-PATHS = (("path", ("X", "Y"), (yes("edge", "X", "Y"),)),
-         ("path", ("X", "Z"), (yes("edge", "X", "Y"), yes("path", "Y", "Z"))))
-
-
-def edge(one, other):
-    return ("edge", (one, other))
-
-
-def path(one, other):
-    return ("path", (one, other))
-
-
-def plain_costs(rules, told_costs, prices):
-    """By rounds, until nothing becomes cheaper."""
-    facts = plain_facts(rules, list(told_costs))
-    instances = {fact: plain_instances(rules, facts, fact) for fact in facts}
-    costs = {fact: told_costs[fact] for fact in facts if fact in told_costs}
-    before = None
-    while before != costs:
-        before = dict(costs)
-        for fact in facts:
-            for number, used in instances[fact]:
-                if all(one in costs for one in used):
-                    cost = prices[number] + sum(costs[one] for one in used)
-                    costs[fact] = min(cost, costs.get(fact, cost))
-    return costs
 
 
 class CostsTest(unittest.TestCase):
@@ -121,7 +94,7 @@ class PlainlyTest(unittest.TestCase):
             told_costs = {fact: chance.choice((0, 0, 1, 2, 5, 40)) for fact in told}
             prices = {number: chance.choice((1, 1, 2, 9)) for number in rules}
             costs = costs_of(rules, told_costs, prices)
-            self.assertEqual(costs, plain_costs(rules, told_costs, prices), (rules, told_costs, prices))
+            self.assertEqual(costs, plain_costs(plain_web(rules, list(told_costs)), told_costs, prices), (rules, told_costs, prices))
             self.assertEqual(set(costs), set(plain_facts(rules, told)))
             made += len([fact for fact in costs if fact not in told])
         self.assertGreater(made, 200)
@@ -132,7 +105,7 @@ class PlainlyTest(unittest.TestCase):
             told_costs = {edge(chance.randrange(6), chance.randrange(6)): chance.randrange(9) for time in range(12)}
             prices = {1: chance.randint(1, 3), 2: chance.randint(1, 3), 3: chance.randint(1, 9)}
             rules = numbered(*PATHS, ("path", ("X", "Z"), (yes("path", "X", "Y"), yes("path", "Y", "Z"))))
-            self.assertEqual(costs_of(rules, told_costs, prices), plain_costs(rules, told_costs, prices))
+            self.assertEqual(costs_of(rules, told_costs, prices), plain_costs(plain_web(rules, list(told_costs)), told_costs, prices))
 
 
 class BoundsTest(unittest.TestCase):

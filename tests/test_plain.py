@@ -1,6 +1,6 @@
 import unittest
 
-from helper import books, is_grouped, no, numbered, plain_meaning, yes
+from helper import books, no, numbered, plain_meaning, plain_mixed, yes
 from reason.errors import TooMany
 from reason.layers import layers_of
 from reason.plain import mixed_of, plain_facts
@@ -62,22 +62,8 @@ class PlainFactsTest(unittest.TestCase):
 
     def test_against_the_document_worked_plainly(self):
         for rules, told in books(23, 200):
-            bodies = {}
-            for predicate, terms, body in rules.values():
-                kinds = [literal[0] for literal in body] + ["not"] * is_grouped((predicate, terms, body))
-                names = [literal[1] for literal in body if literal[0] in ("yes", "not")]
-                bodies.setdefault(predicate, []).append((kinds, names))
-            mixed = []
-            for predicate in bodies:
-                seen, waiting = set(), [predicate]
-                while waiting:
-                    one = waiting.pop()
-                    if one not in seen:
-                        seen.add(one)
-                        waiting += [name for kinds, names in bodies.get(one, []) for name in names]
-                if any("not" in kinds for one in seen for kinds, names in bodies.get(one, [])):
-                    mixed.append(predicate)
-            self.assertEqual(mixed_of(rules), sorted(mixed), rules)
+            mixed = plain_mixed(rules)
+            self.assertEqual(mixed_of(rules), mixed, rules)
             meaning = plain_meaning(rules, told, layers_of(rules))
             self.assertEqual(plain_facts(rules, told), [fact for fact in meaning if fact[0] not in mixed])
 
