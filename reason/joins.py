@@ -74,22 +74,35 @@ class Join:
             step = Meeting(literal, body[:number]) if literal[0] == "yes" else Guard(literal)
             self.steps.append(step)
 
-    def grow(self, fresh, facts):
-        """The bindings that the fresh facts bring; facts are a dict that has all facts as keys."""
+    def grow_by_steps(self, rows, facts):
+        """The bindings that fresh facts bring of the first so many literals: a list of lists, from no literal to all.
+
+        The fresh facts are told as their places, by predicate; facts are a dict that has all facts as keys.
+        """
         bindings = [] if self.begun else [{}]
         self.begun = True
-        rows = places_by_predicate(fresh)
+        grown = [bindings]
         for step in self.steps:
             bindings = step.grow(bindings, rows, facts)
-        return bindings
+            grown.append(bindings)
+        return grown
+
+    def grow(self, fresh, facts):
+        """The bindings of the whole body that the fresh facts bring; facts are a dict that has all facts as keys."""
+        return self.grow_by_steps(places_by_predicate(fresh), facts)[-1]
+
+
+def bindings_by_steps(body, facts):
+    """The bindings of the first so many literals of a body, each once: a list of lists, from no literal to all."""
+    known = {}
+    for fact in facts:
+        known[fact] = True
+    return Join(body).grow_by_steps(places_by_predicate(known), known)
 
 
 def found_bindings(body, facts):
     """The bindings of a body, each once, in no told order."""
-    known = {}
-    for fact in facts:
-        known[fact] = True
-    return Join(body).grow(list(known), known)
+    return bindings_by_steps(body, facts)[-1]
 
 
 def bound_literal(literal, binding):
@@ -99,10 +112,14 @@ def bound_literal(literal, binding):
     return (literal[0],) + replaced_by(literal[1:], binding)
 
 
+def bound_body(body, binding):
+    """A body with the variables that a binding has replaced."""
+    return [bound_literal(literal, binding) for literal in body]
+
+
 def bindings_from(start, body, facts):
     """The bindings of a body that agree with a binding to start from, with all that this one has, in no told order."""
-    bound = [bound_literal(literal, start) for literal in body]
-    return [both_of(start, binding) for binding in found_bindings(bound, facts)]
+    return [both_of(start, binding) for binding in found_bindings(bound_body(body, start), facts)]
 
 
 def bindings_of(body, facts):

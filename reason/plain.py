@@ -1,5 +1,6 @@
 """Mixed and plain predicates: above a not or a group, or not."""
 
+from reason.errors import Missing, Mixed
 from reason.meaning import meaning_of
 from reason.rules import has_predicate, is_group
 
@@ -40,3 +41,11 @@ def plain_facts(rules, told):
     """The plain facts of the meaning, a sorted list; TooMany where the meaning is refused."""
     mixed = mixed_of(rules)
     return [fact for fact in meaning_of(rules, told) if fact[0] not in mixed]
+
+
+def refuse_unless_plain(rules, plain, fact):
+    """Mixed where a fact's predicate is mixed, else Missing where it is not among the plain facts of the meaning."""
+    if fact[0] in mixed_of(rules):
+        raise Mixed("a not or a group stands beneath this predicate")
+    if fact not in plain:
+        raise Missing("this fact is not in the meaning")

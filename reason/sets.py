@@ -1,13 +1,23 @@
 """The told facts beneath a plain fact, and the least sets of them from which it follows."""
 
-from reason.errors import Missing, Mixed, Wide
+from reason.errors import Wide
 from reason.measures import Bits, measure_of
-from reason.parts import has_bit, least_of, parts_of
-from reason.plain import mixed_of, plain_facts
+from reason.parts import least_of, parts_of
+from reason.plain import plain_facts, refuse_unless_plain
 from reason.values import least_values
 from reason.webs import Web
 
 MOST_BENEATH = 8
+
+
+def own_bits(count):
+    """So many whole numbers, of which each has one bit of its own."""
+    bits = []
+    bit = 1
+    for turn in range(count):
+        bits.append(bit)
+        bit = bit * 2
+    return bits
 
 
 class Ground:
@@ -15,10 +25,7 @@ class Ground:
 
     def __init__(self, rules, told, fact):
         plain = plain_facts(rules, told)
-        if fact[0] in mixed_of(rules):
-            raise Mixed("a not or a group stands beneath this predicate")
-        if fact not in plain:
-            raise Missing("this fact is not in the meaning")
+        refuse_unless_plain(rules, plain, fact)
         self.web = Web(rules, plain)
         self.goal = self.web.numbers[fact]
         self.beneath = sorted(self.web.lying_beneath(self.goal))
@@ -42,14 +49,14 @@ class Ground:
         if len(self.bases) > MOST_BENEATH:
             raise Wide(f"more than {MOST_BENEATH} told facts lie beneath this fact")
         parts = parts_of(self.bases)
+        bits = own_bits(len(parts))
         begun = [0 for fact in self.web.listed]
-        for spot, part in enumerate(parts):
+        for part, bit in zip(parts, bits):
             for fact in part:
                 number = self.web.numbers[fact]
-                begun[number] = begun[number] | (1 << spot)
-        measure = Bits((1 << len(parts)) - 1)
-        holding = least_values(measure, self.uses_beneath(), begun)[self.goal]
-        return [part for spot, part in enumerate(parts) if has_bit(holding, spot)]
+                begun[number] = begun[number] | bit
+        holding = least_values(Bits(sum(bits)), self.uses_beneath(), begun)[self.goal]
+        return [part for part, bit in zip(parts, bits) if (holding & bit) != 0]
 
 
 def beneath_of(rules, told, fact):

@@ -2,7 +2,7 @@
 
 from reason.errors import NoText
 from reason.rules import has_predicate, is_group, is_rule
-from reason.terms import is_fact, is_figure
+from reason.terms import is_fact, is_figure, is_name
 
 MOST_FIGURES = 30
 
@@ -46,6 +46,18 @@ def is_numeral(word):
 def read_terms(words):
     """Numerals as numbers, and all other words as they are: whether they are terms is seen in the whole."""
     return tuple([int(word) if is_numeral(word) else word for word in words])
+
+
+def read_name(word):
+    """The name that a word is; NoText where it is none."""
+    if not is_name(word):
+        raise NoText("this word is no name")
+    return word
+
+
+def read_constant(word):
+    """The constant that a word is; NoText where it is none."""
+    return int(word) if is_numeral(word) else read_name(word)
 
 
 def read_fact(text):

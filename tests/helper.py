@@ -6,8 +6,9 @@ import itertools
 import math
 import random
 
-from reason.errors import Ring
+from reason.errors import Missing, ReasonError, Ring, Twice, Unsafe
 from reason.layers import layers_of
+from reason.rules import is_safe, widths_of
 from reason.terms import constant_before, fact_key, in_order
 
 WIDTHS = {"a": 1, "b": 2, "c": 2, "d": 1, "e": 0, "f": 3}
@@ -398,3 +399,137 @@ def least_parts(parts):
 
 def plain_sets(web, told, fact):
     return least_parts([part for part in parts_in_order(plain_beneath(web, told, fact)) if follows(web, part, fact)])
+
+
+def plain_falls(web, told, fact):
+    """The least sets without which the fact does not follow from all other plain told facts."""
+    plain = [one for one in told if one in web]
+    return least_parts([part for part in parts_in_order(plain_beneath(web, told, fact))
+                        if not follows(web, [one for one in plain if one not in part], fact)])
+
+
+def unified(terms, places):
+    """The binding by which terms are places (None for any constant), or None where there is none."""
+    binding = {}
+    for term, place in zip(terms, places, strict=True):
+        if place is not None:
+            variable = isinstance(term, str) and term[0].isupper()
+            if (binding.setdefault(term, place) if variable else term) != place:
+                return None
+    return binding
+
+
+def bindings_with(start, body, facts):
+    """The bindings of a body that have what they start from, whether it stands in the body or not."""
+    free = [variable for variable in variables_of(body) if variable not in start]
+    found = []
+    for row in itertools.product(constants_in_order(facts), repeat=len(free)):
+        binding = {**start, **dict(zip(free, row))}
+        if all(literal_stands(literal, binding, facts) for literal in body):
+            found.append(binding)
+    return found
+
+
+def plain_lack(rule, facts, fact):
+    predicate, terms, body = rule
+    grouped = is_grouped(rule)
+    places = fact[1][:-1] if grouped else fact[1]
+    start = unified(terms[:-1] if grouped else terms, places)
+    if start is None:
+        return ("head",)
+    for number in range(len(body)):
+        if not bindings_with(start, body[:number + 1], set(facts)):
+            return ("literal", number)
+    others = [given[1][-1] for given in plain_group_facts(rule, facts) if given[1][:-1] == places]
+    return ("other", others[0]) if others else ("nothing",)
+
+
+def plain_lacks(rules, facts, fact):
+    return [(number, plain_lack(rules[number], facts, fact)) for number in sorted(rules)
+            if rules[number][0] == fact[0] and len(rules[number][1]) == len(fact[1])]
+
+
+def meets(fact, mark):
+    return fact[0] == mark[0] and all(place in (None, own) for own, place in zip(fact[1], mark[1], strict=True))
+
+
+def plain_asked(rules, told, question):
+    """The marks and the made facts, a step taken for each rule and mark again and again until nothing comes."""
+    layers = layers_of(rules)
+    layer = layers.get(question[0], 0)
+    lower = {fact for fact in plain_meaning(rules, told, layers) if layers.get(fact[0], 0) < layer}
+    marks, made = {question}, set()
+    before = None
+    while before != (len(marks), len(made)):
+        before = (len(marks), len(made))
+        for mark in list(marks):
+            own = [rule for rule in rules.values() if rule[0] == mark[0]]
+            bases = [fact for fact in told if layers.get(fact[0], 0) == layer and fact[0] == mark[0]]
+            bases += [fact for rule in own if is_grouped(rule) for fact in plain_group_facts(rule, lower)]
+            made |= {fact for fact in bases if meets(fact, mark)}
+            for predicate, terms, body in [rule for rule in own if not is_grouped(rule)]:
+                start = unified(terms, mark[1])
+                for number in range(len(body) + 1) if start is not None else ():
+                    for binding in bindings_with(start, body[:number], made | lower):
+                        if number == len(body):
+                            made.add((predicate, tuple(put(term, binding) for term in terms)))
+                        elif body[number][0] == "yes" and layers[body[number][1]] == layer:
+                            pattern = tuple(binding.get(term) if isinstance(term, str) and term[0].isupper() else term
+                                            for term in body[number][2])
+                            marks.add((body[number][1], pattern))
+    return marks, in_order(list(made))
+
+
+def in_mark_order(marks):
+    """Marks sorted by predicate, then place by place, None ahead of numbers, these ahead of names."""
+    def key(place):
+        return (0, 0) if place is None else (2, place) if isinstance(place, str) else (1, place)
+    return sorted(marks, key=lambda mark: (mark[0], [key(place) for place in mark[1]]))
+
+
+class Model:
+    """What a keeper must tell, each time worked from the beginning."""
+
+    def __init__(self):
+        self.book, self.given, self.last = {}, [], 0
+
+    def due(self, kind, thing):
+        """The refusal that is due, or None, and the rules and told facts behind the deed."""
+        book, given = dict(self.book), list(self.given)
+        if kind in ("rule_out", "take"):
+            if thing not in (book if kind == "rule_out" else given):
+                return Missing, None, None
+            book.pop(thing) if kind == "rule_out" else given.remove(thing)
+            return None, book, given
+        if thing in (list(book.values()) if kind == "rule_in" else given):
+            return Twice, None, None
+        if kind == "rule_in":
+            book[self.last + 1] = thing
+        else:
+            given.append(thing)
+        try:
+            widths_of(book, given)
+            if kind == "rule_in" and not is_safe(thing):
+                raise Unsafe
+            layers_of(book)
+        except ReasonError as error:
+            return error.__class__, None, None
+        return None, book, given
+
+    def meaning(self):
+        return plain_meaning(self.book, self.given, layers_of(self.book))
+
+
+def some_deed(chance, model):
+    """A deed of a keeper, the name of its method and what is handed in; often one that is refused."""
+    kind = chance.choice(("rule_in", "rule_in", "rule_out", "put", "put", "put", "put", "take", "take"))
+    if kind == "rule_in":
+        rule = lively_rule(chance) if chance.random() < 0.5 else some_rule(chance, chance.randint(1, 3))
+        known = list(model.book.values())
+        return kind, chance.choice(known) if known and chance.random() < 0.1 else rule
+    if kind == "rule_out":
+        return kind, chance.choice(list(model.book) + [model.last + 1])
+    if kind == "take" and model.given and chance.random() < 0.8:
+        return kind, chance.choice(model.given)
+    fact = (some_facts(chance, 9) or [("e", ())])[0]
+    return kind, (fact if chance.random() < 0.9 else (fact[0], fact[1][1:]))

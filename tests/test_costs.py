@@ -94,7 +94,8 @@ class PlainlyTest(unittest.TestCase):
             told_costs = {fact: chance.choice((0, 0, 1, 2, 5, 40)) for fact in told}
             prices = {number: chance.choice((1, 1, 2, 9)) for number in rules}
             costs = costs_of(rules, told_costs, prices)
-            self.assertEqual(costs, plain_costs(plain_web(rules, list(told_costs)), told_costs, prices), (rules, told_costs, prices))
+            web = plain_web(rules, told)
+            self.assertEqual(costs, plain_costs(web, told_costs, prices), (rules, told_costs, prices))
             self.assertEqual(set(costs), set(plain_facts(rules, told)))
             made += len([fact for fact in costs if fact not in told])
         self.assertGreater(made, 200)
@@ -105,7 +106,8 @@ class PlainlyTest(unittest.TestCase):
             told_costs = {edge(chance.randrange(6), chance.randrange(6)): chance.randrange(9) for time in range(12)}
             prices = {1: chance.randint(1, 3), 2: chance.randint(1, 3), 3: chance.randint(1, 9)}
             rules = numbered(*PATHS, ("path", ("X", "Z"), (yes("path", "X", "Y"), yes("path", "Y", "Z"))))
-            self.assertEqual(costs_of(rules, told_costs, prices), plain_costs(plain_web(rules, list(told_costs)), told_costs, prices))
+            web = plain_web(rules, list(told_costs))
+            self.assertEqual(costs_of(rules, told_costs, prices), plain_costs(web, told_costs, prices))
 
 
 class BoundsTest(unittest.TestCase):

@@ -2,12 +2,10 @@ import itertools
 import random
 import unittest
 
-from helper import Agrees, lively_rule, no, plain_meaning, some_facts, some_rule, yes
+from helper import Agrees, Model, no, some_deed, yes
 from reason.errors import Missing, NoFact, NoRule, ReasonError, Ring, TooMany, Twice, Unlike, Unsafe
 from reason.keeper import Keeper
-from reason.layers import layers_of
 from reason.papers import facts_of, takes
-from reason.rules import is_safe, widths_of
 from reason.terms import in_order
 
 TOLD = ("told",)
@@ -313,60 +311,14 @@ class OwnTest(unittest.TestCase):
         self.assertEqual(said, all_of(kept_by(STEP, edge(1, 2))))
 
 
-class Model:
-    """What a keeper must tell, each time worked from the beginning."""
-
-    def __init__(self):
-        self.book, self.given, self.last = {}, [], 0
-
-    def due(self, kind, thing):
-        """The refusal that is due, or None, and the rules and told facts behind the deed."""
-        book, given = dict(self.book), list(self.given)
-        if kind in ("rule_out", "take"):
-            if thing not in (book if kind == "rule_out" else given):
-                return Missing, None, None
-            book.pop(thing) if kind == "rule_out" else given.remove(thing)
-            return None, book, given
-        if thing in (list(book.values()) if kind == "rule_in" else given):
-            return Twice, None, None
-        if kind == "rule_in":
-            book[self.last + 1] = thing
-        else:
-            given.append(thing)
-        try:
-            widths_of(book, given)
-            if kind == "rule_in" and not is_safe(thing):
-                raise Unsafe
-            layers_of(book)
-        except ReasonError as error:
-            return error.__class__, None, None
-        return None, book, given
-
-    def meaning(self):
-        return plain_meaning(self.book, self.given, layers_of(self.book))
-
-
 class RowsOfDeedsTest(unittest.TestCase):
-    def some_deed(self, chance, model):
-        kind = chance.choice(("rule_in", "rule_in", "rule_out", "put", "put", "put", "put", "take", "take"))
-        if kind == "rule_in":
-            rule = lively_rule(chance) if chance.random() < 0.5 else some_rule(chance, chance.randint(1, 3))
-            known = list(model.book.values())
-            return kind, chance.choice(known) if known and chance.random() < 0.1 else rule
-        if kind == "rule_out":
-            return kind, chance.choice(list(model.book) + [model.last + 1])
-        if kind == "take" and model.given and chance.random() < 0.8:
-            return kind, chance.choice(model.given)
-        fact = (some_facts(chance, 9) or [("e", ())])[0]
-        return kind, (fact if chance.random() < 0.9 else (fact[0], fact[1][1:]))
-
     def test_against_the_document_worked_plainly(self):
         chance = random.Random(18)
         refusals = {}
         for turn in range(12):
             keeper, model = Keeper(), Model()
             for time in range(60):
-                kind, thing = self.some_deed(chance, model)
+                kind, thing = some_deed(chance, model)
                 error, book, given = model.due(kind, thing)
                 before = model.meaning()
                 deed = getattr(keeper, kind)
