@@ -294,6 +294,24 @@ class RefusedTest(unittest.TestCase):
         self.refused(Unsafe, "rule p X if not p Y")
 
 
+class BoundsTest(unittest.TestCase):
+    def test_thirty_rules_and_wide_bodies(self):
+        desk = desk_with(*[f"put e {one} {other}" for one in range(12) for other in range(12)], "put f 3 4")
+        for number in range(1, 26):
+            desk.say(f"rule p {number % 12} X if f X Y, unlike X {number}")
+        for number in range(26, 30):
+            desk.say(f"rule q A {number % 12} if e A B, e B C, e C D, f A B")
+        self.assertEqual(desk.say("rule n A count if e A B, e B C, e C D")[0], "30")
+        self.assertEqual(desk.say("ask q ? 2"), ["q 3 2"])
+        self.assertEqual(desk.say("facts n")[-1], "n 11 1728")
+        self.assertEqual(desk.say("lack n 5 7"), ["30 other 1728"])
+        self.assertEqual(desk.say("lack q 4 2"), [f"{number} " + ("literal 3" if number == 26 else "head")
+                                                  for number in range(26, 30)])
+        self.assertEqual((desk.say("cost q 3 2"), desk.say("many 999999999 q 3 2")), (["5"], ["144"]))
+        self.assertRaises(Wide, desk.say, "sets q 3 2")
+        self.assertEqual((desk.say("falls p 0 3"), desk.say("needs p 0 3")), (["f 3 4"], ["f 3 4"]))
+
+
 class ReadAgainTest(unittest.TestCase):
     def test_facts_told_are_taken_again(self):
         desk = desk_with("put p -5 a", "put p 0 b", "put q", "put r " + "8" * 30)

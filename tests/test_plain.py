@@ -36,6 +36,10 @@ class MixedTest(unittest.TestCase):
         self.assertEqual(mixed_of(rules), [])
         self.assertEqual(mixed_of({**rules, 4: ("q", (), (no("r"),))}), ["p", "q"])
 
+    def test_a_constant_that_is_called_like_a_mixed_predicate(self):
+        rules = numbered(("p", (), (no("a"),)), ("q", ("X",), (yes("b", "X"), ("unlike", "p", "X"), ("under", "p", 1))))
+        self.assertEqual(mixed_of(rules), ["p"])
+
     def test_what_a_not_looks_at_is_plain(self):
         self.assertEqual(mixed_of(numbered(("p", (), (no("q"),)), ("q", (), (yes("r"),)))), ["p"])
 
